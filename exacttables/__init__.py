@@ -1,1 +1,1 @@
-"""Exact linear solving over small tables of fractions; exacttables.desk.answers is the way in."""
+"""Exact linear solving, and derivatives through equations; exacttables.desk.answers is the way in."""

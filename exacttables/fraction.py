@@ -46,9 +46,24 @@ def plus(first, second):
     return (first[0] * second[1] + second[0] * first[1], first[1] * second[1])
 
 
+def opposite(fraction):
+    """The fraction with the other sign."""
+    return (-fraction[0], fraction[1])
+
+
+def minus(first, second):
+    """The first fraction less the second, not in lowest terms."""
+    return plus(first, opposite(second))
+
+
 def times(first, second):
     """The product of two fractions, not in lowest terms."""
     return (first[0] * second[0], first[1] * second[1])
+
+
+def over(first, second):
+    """The first fraction divided by the second, which isn't 0; not in lowest terms."""
+    return (first[0] * second[1], first[1] * second[0])
 
 
 def common_denominator(fractions):

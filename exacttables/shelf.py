@@ -1,5 +1,6 @@
-"""The six places that hold tables from call to call."""
+"""What is kept from call to call: six places that hold tables, and a code."""
 
+from exacttables.linecode import Code
 from exacttables.refusals import OutOfRange
 from exacttables.table import Table, settled_table
 
@@ -18,10 +19,11 @@ def need_place(number):
 
 
 class Shelf:
-    """Each place holds a table without rows and columns at the beginning."""
+    """At the beginning each place holds a table without rows and columns, and the code has nothing."""
 
     def __init__(self):
         self.tables = [Table(0, 0, []) for place in range(PLACES)]
+        self.code = Code(0, 0, [], [])
 
     def held(self, place):
         """The table at that place."""

@@ -40,6 +40,17 @@ def settled_table(table):
     return Table(table.height, table.width, [[settled_fraction(entry) for entry in row] for row in table.rows])
 
 
+def need_square(table):
+    """Refuse a table with more rows than columns, or the other way round."""
+    if table.height != table.width:
+        raise SizesDontFit()
+
+
+def are_same(first, second):
+    """Whether two tables in lowest terms have the same rows, columns and entries."""
+    return first.height == second.height and first.width == second.width and first.rows == second.rows
+
+
 def sum_of(first, second):
     """Entry by entry the sum."""
     if first.height != second.height or first.width != second.width:
@@ -123,8 +134,7 @@ def product_of(first, second):
 
 def power_of(table, exponent):
     """The product of so many factors; what lies between may be heavier than what is kept."""
-    if table.height != table.width:
-        raise SizesDontFit()
+    need_square(table)
     common = common_denominator(entries_of(table))
     factor = whole_rows(table, common)
     rows = whole_unit(table.height)

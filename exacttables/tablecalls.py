@@ -4,31 +4,16 @@ Each one asks for all ranges first, then for the form of its list; sizes are
 looked at by the work on tables, and what is too large where it is put.
 """
 
-from exacttables.refusals import BadList, OutOfRange
+from exacttables.fractionlists import fractions_of, told_fractions, told_settled
 from exacttables.reducing import reduced
+from exacttables.refusals import OutOfRange
 from exacttables.shelf import need_place, need_range
-from exacttables.table import LONGEST, difference_of, entries_of, joined_below, joined_beside, part_of
+from exacttables.solving import inverse_of, kernel_of, solution_of
+from exacttables.squares import characteristic_numbers, determinant_of, elimination_of, trace_of
+from exacttables.table import LONGEST, are_same, difference_of, entries_of, joined_below, joined_beside, part_of
 from exacttables.table import power_of, product_of, scaled, sum_of, table_of, turned, unit_table
 
 HIGHEST_POWER = 12
-
-
-def fractions_of(numbers, count):
-    """Just so many fractions, told as two numbers each."""
-    if len(numbers) != 2 * count:
-        raise BadList()
-    fractions = [(numbers[2 * k], numbers[2 * k + 1]) for k in range(count)]
-    if any([fraction[1] < 1 for fraction in fractions]):
-        raise BadList()
-    return fractions
-
-
-def told_fractions(fractions):
-    """Two numbers for each fraction."""
-    told = []
-    for fraction in fractions:
-        told.extend(fraction)
-    return told
 
 
 def put_joined(shelf, given, join):
@@ -135,6 +120,60 @@ def call_reduce(shelf, given):
     return [len(result.leading)] + result.leading
 
 
+def call_det(shelf, given):
+    """p"""
+    return [0] + told_settled([determinant_of(shelf.held(given[0]))])
+
+
+def call_inverse(shelf, given):
+    """r, p"""
+    need_place(given[0])
+    shelf.put(given[0], inverse_of(shelf.held(given[1])))
+    return [0]
+
+
+def call_solve(shelf, given):
+    """r, p, q"""
+    need_place(given[0])
+    first = shelf.held(given[1])
+    second = shelf.held(given[2])
+    solution = solution_of(first, second)
+    if solution is None:
+        return [1]
+    shelf.put(given[0], solution.table)
+    return [0 if solution.only else 2]
+
+
+def call_kernel(shelf, given):
+    """r, p"""
+    need_place(given[0])
+    table = kernel_of(shelf.held(given[1]))
+    shelf.put(given[0], table)
+    return [table.width]
+
+
+def call_leading(shelf, given):
+    """p"""
+    result = elimination_of(shelf.held(given[0]))
+    return [result.changes % 2, len(result.numbers)] + result.numbers
+
+
+def call_char(shelf, given):
+    """p"""
+    numbers = characteristic_numbers(shelf.held(given[0]))
+    return [len(numbers)] + told_settled(numbers)
+
+
+def call_trace(shelf, given):
+    """p"""
+    return [0] + told_settled([trace_of(shelf.held(given[0]))])
+
+
+def call_same(shelf, given):
+    """p, q"""
+    return [1 if are_same(shelf.held(given[0]), shelf.held(given[1])) else 0]
+
+
 # By the call's number: what answers it, how many plain numbers it is given, and how many lists behind them.
 TABLE_CALLS = (
     (call_set, 3, 1),
@@ -150,4 +189,12 @@ TABLE_CALLS = (
     (call_part, 6, 0),
     (call_power, 3, 0),
     (call_reduce, 2, 0),
+    (call_det, 1, 0),
+    (call_inverse, 2, 0),
+    (call_solve, 3, 0),
+    (call_kernel, 2, 0),
+    (call_leading, 1, 0),
+    (call_char, 1, 0),
+    (call_trace, 1, 0),
+    (call_same, 2, 0),
 )

@@ -134,6 +134,38 @@ class Language(unittest.TestCase):
                     values.add(node.attr)
         self.assertFalse(methods & values)
 
+    def test_values_of_objects_are_called_by_free_names(self):
+        own = set().union(*[dir(kind) for kind in (str, int, list, tuple, dict, set, frozenset, bytes)])
+        free = set("count index title find get join lower upper split strip copy add".split())
+        for name, tree in trees():
+            for node in ast.walk(tree):
+                if isinstance(node, ast.Attribute) and isinstance(node.ctx, ast.Store):
+                    self.assertNotIn(node.attr, own - free, (name, node.lineno))
+
+    def test_each_name_of_the_top_is_bound_once(self):
+        for name, tree in trees():
+            bound = []
+            for node in tree.body:
+                if isinstance(node, (ast.FunctionDef, ast.ClassDef)):
+                    bound.append(node.name)
+                elif isinstance(node, ast.ImportFrom):
+                    bound += [part.name for part in node.names]
+                elif isinstance(node, ast.Assign):
+                    bound.append(node.targets[0].id)
+                    self.assertIsInstance(node.value, (ast.Constant, ast.Tuple), (name, node.lineno))
+            self.assertEqual(len(bound), len(set(bound)), name)
+
+    def test_names_are_drawn_from_where_they_are_defined_and_used(self):
+        defined = {name: {getattr(node, "name", None) or node.targets[0].id for node in tree.body
+                          if isinstance(node, (ast.FunctionDef, ast.ClassDef, ast.Assign))} for name, tree in trees()}
+        for name, tree in trees():
+            used = {node.id for node in ast.walk(tree) if isinstance(node, ast.Name)}
+            for node in tree.body:
+                if isinstance(node, ast.ImportFrom):
+                    for part in node.names:
+                        self.assertIn(part.name, defined[node.module.split(".")[1] + ".py"], name)
+                        self.assertIn(part.name, used, name)
+
     def test_no_local_is_called_like_a_name_of_the_top(self):
         for name, tree in trees():
             top = set()
